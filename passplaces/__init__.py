@@ -1,0 +1,1 @@
+"""Passplaces: two files of walkers on a narrow way."""
