@@ -2,7 +2,7 @@
 
 from passplaces.checks import check_walker, is_number
 from passplaces.errors import InvalidChain, InvalidPlan, NoPlan, OtherWay
-from passplaces.ways import below, conditions, pairs_of, with_cell
+from passplaces.ways import below, conditions, is_pair, pairs_of, with_cell
 
 
 def has_plan(way):
@@ -56,11 +56,7 @@ def is_entry(way, value):
     if not isinstance(value, tuple) or len(value) != 2:
         return False
     pair, place = value
-    if not isinstance(pair, tuple) or len(pair) != 2:
-        return False
-    if not is_number(pair[0], 0, way.rights - 1) or not is_number(pair[1], 0, way.lefts - 1):
-        return False
-    return place is None or is_number(place, 0, way.places - 1)
+    return is_pair(way, pair) and (place is None or is_number(place, 0, way.places - 1))
 
 
 def least_from(places, bound):

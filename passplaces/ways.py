@@ -134,6 +134,13 @@ def pairs_of(way):
     return [(right, left) for right in range(way.rights) for left in range(way.lefts)]
 
 
+def is_pair(way, value):
+    """Return True if any value is a pair of the numbers of a right and a left walker."""
+    if not isinstance(value, tuple) or len(value) != 2:
+        return False
+    return is_number(value[0], 0, way.rights - 1) and is_number(value[1], 0, way.lefts - 1)
+
+
 def below(way, pair):
     """Return a list (b, w) of the pairs below a pair with their differences, ascending."""
     right, left = pair

@@ -4,7 +4,7 @@ import ast
 import inspect
 from pathlib import Path
 
-from passplaces import errors, plans, ways
+from passplaces import crossings, errors, listing, orders, plans, ways
 from tests.helpers import Case
 
 FOLDER = Path(__file__).resolve().parent.parent / "passplaces"
@@ -42,11 +42,47 @@ INTERFACE = {
         "shifts": "(self)",
         "path_to": "(self, other)",
     },
+    crossings.Crossing: {
+        "__init__": "(self, way)",
+        "go_right": "(self, number)",
+        "go_left": "(self, number)",
+        "meet": "(self, right, left)",
+        "run": "(self, *steps)",
+        "plan": "(self)",
+    },
+    crossings.LoggedCrossing: {
+        "__init__": "(self, way)",
+        "undo": "(self)",
+    },
 }
+
+PROPERTIES = {
+    ways.Way: ["rights", "lefts", "places", "table"],
+    plans.Plan: ["way", "cells", "rank_sum"],
+    crossings.Crossing: ["way", "spots", "cells", "is_over"],
+    crossings.LoggedCrossing: ["log"],
+}
+
+GENERATORS = [
+    ways.conditions, plans.Plan.shifts, plans.Plan.path_to, crossings.steps, listing.plans, orders.orders,
+]
 
 FUNCTIONS = {
     ways: {"conditions": "(way)"},
     plans: {"has_plan": "(way)", "chain_of": "(way)", "check_chain": "(way, chain)"},
+    crossings: {"steps": "(plan, *, order=None)", "check_order": "(way, order)"},
+    listing: {
+        "plans": "(way)",
+        "count_plans": "(way)",
+        "plan_by_rank": "(way, rank)",
+        "rank_of": "(plan)",
+    },
+    orders: {
+        "count_orders": "(way)",
+        "order_by_rank": "(way, rank)",
+        "rank_of_order": "(way, order)",
+        "orders": "(way, *, start=0)",
+    },
 }
 
 
@@ -83,14 +119,17 @@ class PackageTest(Case):
             self.assertIsInstance(vars(owner)[name], staticmethod)
         for owner, name in [(ways.Way, "square"), (plans.Plan, "leftmost"), (plans.Plan, "rightmost")]:
             self.assertIsInstance(vars(owner)[name], classmethod)
-        for name in ["rights", "lefts", "places", "table"]:
-            self.assertIsInstance(vars(ways.Way)[name], property)
-        for name in ["way", "cells", "rank_sum"]:
-            self.assertIsInstance(vars(plans.Plan)[name], property)
+        for owner, names in PROPERTIES.items():
+            for name in names:
+                self.assertIsInstance(vars(owner)[name], property, (owner, name))
+        for function in GENERATORS:
+            self.assertTrue(inspect.isgeneratorfunction(function), function)
 
     def test_classes_are_defined_where_they_are_listed(self):
         self.assertEqual(ways.Way.__module__, "passplaces.ways")
         self.assertEqual(plans.Plan.__module__, "passplaces.plans")
+        self.assertEqual(crossings.Crossing.__module__, "passplaces.crossings")
+        self.assertEqual(crossings.LoggedCrossing.__module__, "passplaces.crossings")
         self.assertEqual(errors.PassplacesError.__module__, "passplaces.errors")
 
     def test_sizes_of_files_and_functions(self):
