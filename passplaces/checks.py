@@ -3,12 +3,15 @@
 from passplaces.errors import InvalidWalker
 
 
+def is_int(value):
+    """Return True if any value is an integer."""
+    # True and False are integers of Python, but not of the document.
+    return isinstance(value, int) and not isinstance(value, bool)
+
+
 def is_number(value, low, high):
     """Return True if any value is an integer from low to high."""
-    # True and False are integers of Python, but not of the document.
-    if isinstance(value, bool) or not isinstance(value, int):
-        return False
-    return low <= value <= high
+    return is_int(value) and low <= value <= high
 
 
 def check_walker(value, walkers):

@@ -4,7 +4,7 @@ import ast
 import inspect
 from pathlib import Path
 
-from passplaces import crossings, errors, listing, orders, plans, ways
+from passplaces import console, costs, crossings, errors, listing, live, orders, plans, texts, ways
 from tests.helpers import Case
 
 FOLDER = Path(__file__).resolve().parent.parent / "passplaces"
@@ -54,6 +54,24 @@ INTERFACE = {
         "__init__": "(self, way)",
         "undo": "(self)",
     },
+    live.LiveWay: {
+        "__init__": "(self, way)",
+        "__len__": "(self)",
+        "__eq__": "(self, other)",
+        "close": "(self, *places, right=None, left=None)",
+        "allow": "(self, right, left, *places)",
+        "undo": "(self)",
+        "without": "(self, *places, right=None, left=None)",
+        "ways": "(self)",
+        "copy": "(self)",
+    },
+    live.Guide: {
+        "__init__": "(self, way)",
+    },
+    console.Console: {
+        "__init__": "(self)",
+        "run": "(self, command)",
+    },
 }
 
 PROPERTIES = {
@@ -61,10 +79,13 @@ PROPERTIES = {
     plans.Plan: ["way", "cells", "rank_sum"],
     crossings.Crossing: ["way", "spots", "cells", "is_over"],
     crossings.LoggedCrossing: ["log"],
+    live.LiveWay: ["way", "log", "is_passable"],
+    live.Guide: ["course", "moves"],
 }
 
 GENERATORS = [
     ways.conditions, plans.Plan.shifts, plans.Plan.path_to, crossings.steps, listing.plans, orders.orders,
+    live.LiveWay.ways,
 ]
 
 FUNCTIONS = {
@@ -83,6 +104,13 @@ FUNCTIONS = {
         "rank_of_order": "(way, order)",
         "orders": "(way, *, start=0)",
     },
+    costs: {
+        "cost_of": "(plan, costs)",
+        "cheapest_plan": "(way, costs)",
+        "bound_by": "(way, costs, weights)",
+        "check_cheapest": "(way, costs, answer)",
+    },
+    texts: {"way_text": "(way)", "read_way": "(text)"},
 }
 
 
@@ -130,6 +158,9 @@ class PackageTest(Case):
         self.assertEqual(plans.Plan.__module__, "passplaces.plans")
         self.assertEqual(crossings.Crossing.__module__, "passplaces.crossings")
         self.assertEqual(crossings.LoggedCrossing.__module__, "passplaces.crossings")
+        self.assertEqual(live.LiveWay.__module__, "passplaces.live")
+        self.assertEqual(live.Guide.__module__, "passplaces.live")
+        self.assertEqual(console.Console.__module__, "passplaces.console")
         self.assertEqual(errors.PassplacesError.__module__, "passplaces.errors")
 
     def test_sizes_of_files_and_functions(self):
